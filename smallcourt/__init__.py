@@ -1,0 +1,1 @@
+"""Smallcourt: small rulings by rules with exceptions of exceptions."""
