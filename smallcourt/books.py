@@ -115,7 +115,7 @@ class Book:
         """Return the book without a rule and all of its exceptions."""
         if name not in self:
             raise UnknownRule("the book has no rule with this name")
-        return Book(self._facts, without_rule(self._rules, name), self._ruling)
+        return Book(self._facts, replaced(self._rules, name, ()), self._ruling)
 
     def __eq__(self, other):
         return (isinstance(other, Book) and self._facts == other._facts and self._rules == other._rules
@@ -155,7 +155,13 @@ def check_rules(facts, rules):
         names.append(rule.name)
 
 
-def without_rule(rules, name):
-    """Return a tuple of rules without the one with the name, wherever it stands."""
-    kept = [rule for rule in rules if rule.name != name]
-    return tuple([Rule(rule.name, rule.condition, rule.ruling, without_rule(rule.exceptions, name)) for rule in kept])
+def replaced(rules, name, others):
+    """Return a tuple of rules in which others stand in the place of the one with the name, wherever that is."""
+    made = []
+    for rule in rules:
+        if rule.name == name:
+            made.extend(others)
+        else:
+            inner = replaced(rule.exceptions, name, others)
+            made.append(Rule(rule.name, rule.condition, rule.ruling, inner))
+    return tuple(made)

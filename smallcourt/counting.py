@@ -2,14 +2,13 @@
 
 from math import gcd
 
-from smallcourt.cubes import narrowed, rest_of
 from smallcourt.errors import InvalidChance, InvalidNumber, UnknownFact, UnknownRule
 from smallcourt.facts import bits_of, check_case, names_of
 from smallcourt.lines import check_ruling, cubes_of, lines_of, narrowed_lines, rows_of, ruling_at
 from smallcourt.names import is_integer
-from smallcourt.outcomes import ruling_weight, within_reach
-from smallcourt.prices import NEVER, Prices
-from smallcourt.tally import Tally
+from smallcourt.outcomes import deciding_names, free_prices, ruling_weight, weights_by_ruling
+from smallcourt.sides import any_unlike, turned_parts, unlike_weight
+from smallcourt.tally import Tally, plain_tally
 
 MOST_CASES = 2 ** 60
 MOST_NUMBERS = 10000
@@ -18,14 +17,7 @@ GREATEST_BELOW = 100
 
 def counts(book):
     """Return a dict from all rulings of a book, ascending, to the numbers of cases that have them."""
-    lines = lines_of(book)
-    cubes = cubes_of(lines)
-    tally = plain_tally(book)
-    told = {ruling: 0 for ruling in book.rulings}
-    for index, (_, ruling) in enumerate(lines):
-        told[ruling] += tally.first_met(cubes, index)
-    told[book.ruling] += tally.total - sum(list(told.values()))
-    return told
+    return weights_by_ruling(plain_tally(book), lines_of(book), book.ruling, book.rulings)
 
 
 def decided_by(book, name):
@@ -42,11 +34,8 @@ def decided_by(book, name):
 
 def idle_rules(book):
     """Return the list of the names of all rules, by their numbers, that decide no case."""
-    rows = rows_of(book)
-    cubes = cubes_of(rows)
-    free = Prices([0 for _ in book.facts])
-    busy = [rule.name for index, (_, rule) in enumerate(rows) if free.first_met(cubes, index, NEVER) < NEVER]
-    return [name for name in book.names if name not in busy]
+    deciding = deciding_names(free_prices(book), rows_of(book))
+    return [name for name in book.names if name not in deciding]
 
 
 def nth_case(book, ruling, number):
@@ -114,54 +103,16 @@ def swing(book, fact):
     """Return in how many cases the ruling turns if a fact is turned alone."""
     if fact not in book.facts:
         raise UnknownFact("the book has no such fact")
-    tally = plain_tally(book)
-    lines = lines_of(book)
-    bit = bits_of(book.facts, (fact,))
-    return sum([swing_by_line(tally, lines, book.ruling, bit, index) for index in lines_naming(lines, bit)])
-
-
-def swing_by_line(tally, lines, otherwise, bit, index):
-    """Return how many of the cases of `swing` have this line as the first one that is met on either side."""
-    given, beyond = beyond_line(lines, bit, index)
-    earlier = [cube for cube, ruling in beyond if ruling is None]
-    alike = ruling_weight(tally, beyond, otherwise, lines[index][1])
-    return tally.met(given) * (tally.none_met(earlier) - alike) // tally.total
-
-
-def lines_naming(lines, bit):
-    """Return the list of the indexes of the lines that name the fact with a bit."""
-    return [index for index, (cube, _) in enumerate(lines) if (cube[0] | cube[1]) & bit]
-
-
-def beyond_line(lines, bit, index):
-    """Return a cube without a fact, and the lines by which its cases are ruled if the fact is turned.
-
-    The cases are those that meet the line with the index on one side of the fact. Earlier lines, of
-    both sides, stand ahead of the others without a ruling: if one of them is met, it decides on its
-    side before the line with the index does.
-    """
-    cube = lines[index][0]
-    given = rest_of(cube, (bit, bit))
-    earlier = [(rest_of(other, (bit, bit)), None) for other, _ in lines[:index]]
-    later = narrowed_lines(lines[index + 1:], (cube[1] & bit, cube[0] & bit))
-    return given, narrowed_lines(earlier + later, given)
+    # The fact itself is free in these lines, so that both cases of each pair are counted.
+    return unlike_weight(plain_tally(book), turned_parts(lines_of(book), book.ruling, bits_of(book.facts, (fact,))))
 
 
 def idle_facts(book):
     """Return the ascending list of the facts that turn the ruling of no case."""
     lines = lines_of(book)
-    return [fact for fact in book.facts if not matters(book, lines, bits_of(book.facts, (fact,)))]
-
-
-def matters(book, lines, bit):
-    """Tell whether the fact with a bit turns the ruling of a case."""
-    free = Prices([0 for _ in book.facts])
-    for index in lines_naming(lines, bit):
-        beyond = beyond_line(lines, bit, index)[1]
-        others = [ruling for ruling in book.rulings if ruling != lines[index][1]]
-        if within_reach(free, beyond, book.ruling, others):
-            return True
-    return False
+    free = free_prices(book)
+    bits = [(fact, bits_of(book.facts, (fact,))) for fact in book.facts]
+    return [fact for fact, bit in bits if not any_unlike(free, turned_parts(lines, book.ruling, bit))]
 
 
 def share(book, ruling, chances):
@@ -194,8 +145,3 @@ def is_chance(pair):
         return False
     above, below = pair
     return is_integer(above) and is_integer(below) and 1 <= below <= GREATEST_BELOW and 0 <= above <= below
-
-
-def plain_tally(book):
-    """Return a tally that counts the cases of a book."""
-    return Tally([(1, 1) for _ in book.facts])

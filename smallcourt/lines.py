@@ -52,6 +52,12 @@ def ruling_at(lines, otherwise, number):
     return otherwise
 
 
+def rulings_of_all(book):
+    """Return the list of the rulings of all cases, by their numbers."""
+    lines = lines_of(book)
+    return [ruling_at(lines, book.ruling, number) for number in range(1 << len(book.facts))]
+
+
 def check_ruling(book, ruling):
     """Raise InvalidRuling unless the ruling stands in the book."""
     if ruling not in book.rulings:

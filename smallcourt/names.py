@@ -1,5 +1,7 @@
 """What is a name, and what is an integer."""
 
+from smallcourt.errors import InvalidRuling
+
 LETTERS = "abcdefghijklmnopqrstuvwxyz"
 LONGEST_NAME = 8
 
@@ -9,6 +11,12 @@ def is_name(value):
     if not isinstance(value, str) or not 1 <= len(value) <= LONGEST_NAME:
         return False
     return all([letter in LETTERS for letter in value])
+
+
+def check_word(ruling):
+    """Raise InvalidRuling for what is no name, whether or not it stands in a book."""
+    if not is_name(ruling):
+        raise InvalidRuling("the ruling is no name")
 
 
 def is_integer(value):

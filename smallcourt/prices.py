@@ -15,7 +15,7 @@ class Prices:
 
     def __init__(self, prices):
         self.prices = list(prices)
-        self.known = {}
+        self.found = {}
         self.least = {}
 
     def met(self, cube):
@@ -37,14 +37,14 @@ class Prices:
         cubes = widest(cubes)
         if cubes[0] == (0, 0):
             return NEVER
-        if cubes in self.known:
-            return self.known[cubes]
+        if cubes in self.found:
+            return self.found[cubes]
         least = max(self.least.get(cubes, 0), self.at_least(cubes))
         if least >= limit:
             return least
         price = self.none_met_by_parts(cubes, limit)
         if price < limit:
-            self.known[cubes] = price
+            self.found[cubes] = price
         else:
             self.least[cubes] = limit
         return price

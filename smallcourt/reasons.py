@@ -5,7 +5,7 @@ from smallcourt.cubes import cube_of
 from smallcourt.errors import NoReason, TooMany
 from smallcourt.facts import bits_of, check_case, names_of
 from smallcourt.lines import check_ruling, lines_of, narrowed_lines, ruling_at
-from smallcourt.outcomes import cheapest, within_reach
+from smallcourt.outcomes import cheapest, free_prices, within_reach
 from smallcourt.prices import NEVER, Prices
 
 MOST_NAMED = 14
@@ -37,8 +37,7 @@ def is_reason(book, case, condition):
         return False
     ruling = book(case)
     lines = narrowed_lines(lines_of(book), cube_of(book.facts, condition))
-    free = Prices([0 for _ in book.facts])
-    return not within_reach(free, lines, book.ruling, others_than(book, ruling))
+    return not within_reach(free_prices(book), lines, book.ruling, others_than(book, ruling))
 
 
 def core(book, case, condition):
@@ -116,7 +115,7 @@ def fewest_flips(book, case, wanted):
     lines = [(turned(cube, number), ruling) for cube, ruling in lines_of(book)]
     # Less is taken off for each fact than for all behind it, so of equally many facts the first are cheapest.
     prices = [ONE_FACT - (ONE_FACT >> (place + 1)) for place in range(len(book.facts))]
-    price, ruling = cheapest(Prices(prices), lines, book.ruling, wanted)
+    price, ruling = cheapest(Prices(prices), lines, book.ruling, wanted, NEVER)
     if price >= NEVER:
         return None
     taken_off = -price % ONE_FACT

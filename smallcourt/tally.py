@@ -15,7 +15,7 @@ class Tally:
         self.total = 1
         for pair in weights:
             self.total = self.total * sum(pair)
-        self.known = {}
+        self.found = {}
 
     def met(self, cube):
         """Return the weight of the cases that meet a cube."""
@@ -36,9 +36,9 @@ class Tally:
         cubes = widest(cubes)
         if not cubes:
             return self.total
-        if cubes not in self.known:
-            self.known[cubes] = self.none_met_by_parts(cubes)
-        return self.known[cubes]
+        if cubes not in self.found:
+            self.found[cubes] = self.none_met_by_parts(cubes)
+        return self.found[cubes]
 
     def none_met_by_parts(self, cubes):
         """Return the same for cubes that are as wide as can be; groups that share no fact are independent."""
@@ -79,6 +79,11 @@ class Tally:
         others = cubes[:index] + cubes[index + 1:]
         met = self.met(cubes[index]) * self.none_met(narrowed(others, cubes[index])) // self.total
         return self.none_met(others) - met
+
+
+def plain_tally(book):
+    """Return a tally that counts the cases of a book."""
+    return Tally([(1, 1) for _ in book.facts])
 
 
 def most_tied(cubes):

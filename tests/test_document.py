@@ -2,15 +2,24 @@
 
 import unittest
 
+from smallcourt.amendments import amended
 from smallcourt.books import Book
+from smallcourt.comparison import clashes, first_unlike, swapped, unlike_count
 from smallcourt.conditions import Condition
 from smallcourt.counting import cases, counts, decided_by, idle_facts, idle_rules, nth_case, rank, share, swing
-from smallcourt.errors import InvalidBook, InvalidCase, InvalidCondition
+from smallcourt.dockets import Docket, effect_of, fewest_appeals, looked_at, retried, without
+from smallcourt.errors import InvalidBook, InvalidCase, InvalidCondition, InvalidDocket, InvalidStatute, NoNeighbor
 from smallcourt.facts import case_number, case_of
+from smallcourt.hearings import Hearing, best_guess, fewest_questions, hear, next_question
 from smallcourt.reasons import core, is_reason, reason, turn, turn_to
 from smallcourt.ruling import decider, rules_looked_at, way
+from smallcourt.seasons import Seasons, always, count_rulings, next_day
+from smallcourt.shapes import flat, lean, under
+from smallcourt.statutes import (
+    Statute, count_days, first_turn_day, restless, rulings_by_day, stood, touched, undone_on,
+)
 from tests.helpers import FACTS
-from tests.makers import example_book
+from tests.makers import example_book, rule, statute_book
 
 
 class FirstStageTest(unittest.TestCase):
@@ -66,6 +75,82 @@ class SecondStageTest(unittest.TestCase):
         self.assertEqual(list(cases(book, "pay", 0, 99)), [("late",), ("late", "owns")])
         told = [swing(book, "first"), idle_facts(book), share(book, "pay", {"late": (1, 4)})]
         self.assertEqual(told, [4, [], (1, 16)])
+
+
+
+class ThirdStageTest(unittest.TestCase):
+    def test_comparison(self):
+        book = example_book()
+        other = swapped(book, "fine")
+        told = [other.names, first_unlike(book, other), unlike_count(book, other), clashes(book)]
+        clash = ("fine", "keep", ("late", "owns"))
+        self.assertEqual(told, [["keep", "fine", "mild"], ("late", "owns"), 2, [clash]])
+
+    def test_shapes(self):
+        book = example_book()
+        more = Book(FACTS, book.rules + (rule("again", ("owns", "paid"), (), "keep"),), "none")
+        late = under(book, Condition(("late",), ()))
+        told = [flat(book).names, flat(book)["mild"].condition.names, lean(more).names, late.facts]
+        self.assertEqual(told, [["mild", "fine", "keep"], ("first", "late", "paid"), ["fine", "mild", "keep"],
+                                ("first", "owns", "paid")])
+        self.assertEqual(late["fine"].condition.names, ("paid",))
+
+    def test_hearings(self):
+        hearing = Hearing(example_book())
+        told = [hearing.tell("late", False), hearing.deciders(), hearing.open_count()]
+        self.assertEqual(told, [["keep", "none"], ["keep", None], 8])
+        self.assertEqual(hearing.possible_after("owns", True), ["keep"])
+        told = [fewest_questions(hearing), next_question(hearing), best_guess(hearing), hearing.take_back()]
+        self.assertEqual(told, [1, "owns", "keep", "late"])
+        book = example_book()
+        told = [hear(book, ("first", "late"), ["paid", "late", "first"]), hear(book, (), ["late"])]
+        self.assertEqual(told, [("warn", 3), ("none", None)])
+
+
+class FourthStageTest(unittest.TestCase):
+    def test_amendments(self):
+        book = statute_book()
+        lost = rule("lost", ("paid",), (), "warn")
+        told = [amended(book, ("strike", "mild")).names, amended(book, ("add", None, lost)).names]
+        self.assertEqual(told, [["late"], ["late", "mild", "lost"]])
+        self.assertEqual(amended(book, ("before", "mild", lost)).names, ["late", "lost", "mild"])
+        with self.assertRaises(NoNeighbor):
+            amended(book, ("swap", "late"))
+
+    def test_statutes(self):
+        statute = Statute(statute_book(), ((10, ("strike", "mild")), (20, ("ruling", "late", "warn"))))
+        told = [statute(9).names, statute.days, stood(statute, "mild"), touched(statute, "late")]
+        self.assertEqual(told, [["late", "mild"], [10, 20], [(0, 9)], [0, 1]])
+        found = [(0, "warn", "mild"), (10, "fine", "late"), (20, "warn", "late")]
+        self.assertEqual(rulings_by_day(statute, ("first", "late")), found)
+        told = [first_turn_day(statute, ("late",), "warn"), count_days(statute, ("first", "late"), "warn", 0, 99)]
+        self.assertEqual(told, [20, 90])
+        self.assertEqual([restless(statute), undone_on(statute, 0)], [(("first", "late"), 2), None])
+        with self.assertRaises(InvalidStatute) as caught:
+            Statute(statute_book(), ((5, ("strike", "mild")), (5, ("swap", "late"))))
+        self.assertEqual(caught.exception.index, 1)
+
+    def test_seasons(self):
+        seasons = Seasons(statute_book(), {"mild": (7, 5, 2)})
+        self.assertEqual([seasons(4).names, seasons(5).names, seasons.period], [["late"], ["late", "mild"], 7])
+        told = count_rulings(seasons, ("first", "late"), 10 ** 18)
+        self.assertEqual(told, {"fine": 714285714285714286, "free": 0, "warn": 285714285714285714})
+        self.assertEqual(always(seasons), {"fine": 1, "free": 6, "warn": 0})
+        self.assertEqual(next_day(seasons, ("first", "late"), "warn", 10 ** 18), 1000000000000000004)
+
+    def test_dockets(self):
+        book = statute_book()
+        free = Book(book.facts, (), "free")
+        entries = (("ann", ("late",), (), 0), ("bob", ("late",), (("ann", "fine", "first"),), 0))
+        docket = Docket((book, free), entries)
+        told = [docket["bob"], looked_at(docket, "bob"), effect_of(docket, "ann", "free")]
+        self.assertEqual(told, [("warn", "mild", ("first", "late")), ["ann"], ["bob"]])
+        self.assertEqual(fewest_appeals(docket, "bob", "fine", 1), ["ann"])
+        told = [without(docket, "ann")["bob"], retried(docket, "ann", ())["bob"]]
+        self.assertEqual(told, [("fine", "late", ("late",)), ("fine", "late", ("late",))])
+        with self.assertRaises(InvalidDocket) as caught:
+            Docket((book,), (("ann", ("late",), (), 0), ("ann", (), (), 0)))
+        self.assertEqual((caught.exception.part, caught.exception.index), ("entries", 1))
 
 
 if __name__ == "__main__":
