@@ -70,14 +70,24 @@ def widest(cubes):
 def apart(cubes):
     """Return the list of the groups of cubes that share no fact, directly or through others."""
     groups = []
-    for cube in cubes:
-        named = cube[0] | cube[1]
-        tied = [group for group in groups if group[0] & named]
-        groups = [group for group in groups if not group[0] & named]
-        for bits, _ in tied:
-            named = named | bits
-        groups.append((named, [other for _, members in tied for other in members] + [cube]))
-    return [members for _, members in groups]
+    rest = list(cubes)
+    while rest:
+        first = rest[0]
+        named = tied_to(first[0] | first[1], rest)
+        groups.append([first] + [cube for cube in rest[1:] if (cube[0] | cube[1]) & named])
+        rest = [cube for cube in rest[1:] if not (cube[0] | cube[1]) & named]
+    return groups
+
+
+def tied_to(named, cubes):
+    """Return the bits of some facts and of all those that cubes tie to them, directly or through others."""
+    before = 0
+    while named != before:
+        before = named
+        for holds, fails in cubes:
+            if (holds | fails) & named:
+                named = named | holds | fails
+    return named
 
 
 def mentions(cubes):

@@ -1,6 +1,6 @@
 """Weights of all cases that meet none of some cubes, without a walk through all cases."""
 
-from smallcourt.cubes import apart, clash, mentions, narrowed, places, widest
+from smallcourt.cubes import apart, mentions, narrowed, places, widest
 
 
 class Tally:
@@ -36,6 +36,8 @@ class Tally:
         cubes = widest(cubes)
         if not cubes:
             return self.total
+        if cubes[0] == (0, 0):
+            return 0
         if cubes not in self.found:
             self.found[cubes] = self.none_met_by_parts(cubes)
         return self.found[cubes]
@@ -93,10 +95,10 @@ def most_tied(cubes):
     """
     best = 0
     most = -1
-    for index, cube in enumerate(cubes):
-        named = cube[0] | cube[1]
-        shared = len([other for other in cubes if (other[0] | other[1]) & named])
-        ties = shared + len([other for other in cubes if clash(cube, other)])
+    named = [holds | fails for holds, fails in cubes]
+    for index, (holds, fails) in enumerate(cubes):
+        shared = [bits for bits in named if bits & named[index]]
+        ties = len(shared) + len([more for more, less in cubes if holds & less or fails & more])
         if ties > most:
             best = index
             most = ties

@@ -76,6 +76,15 @@ def bound(tree):
     return found
 
 
+def local_names(function):
+    """All names that a function binds, its parameters included."""
+    found = {one.arg for one in ast.walk(function.args) if isinstance(one, ast.arg)}
+    for node in ast.walk(function):
+        if isinstance(node, ast.Name) and not isinstance(node.ctx, ast.Load):
+            found.add(node.id)
+    return found
+
+
 class FilesTest(unittest.TestCase):
     def test_names_of_files(self):
         for path in FILES:
@@ -169,6 +178,47 @@ class CodeTest(unittest.TestCase):
             self.assertNotIsInstance(node.value, (float, bytes), (path.name, node.lineno))
             if isinstance(node.value, str):
                 self.assertNotIn("%", node.value, (path.name, node.lineno))
+
+    def test_local_names(self):
+        for path, tree in trees():
+            taken = {alias.name for node in tree.body if isinstance(node, ast.ImportFrom) for alias in node.names}
+            taken |= {node.name for node in tree.body if isinstance(node, (ast.ClassDef, ast.FunctionDef))}
+            for node in ast.walk(tree):
+                if isinstance(node, ast.FunctionDef):
+                    self.assertEqual(local_names(node) & taken, set(), (path.name, node.name))
+
+    def test_properties_methods_and_attributes_apart(self):
+        functions = [node for _, owner in nodes(ast.ClassDef) for node in owner.body if isinstance(node, ast.FunctionDef)]
+        assigned = {node.attr for _, node in nodes(ast.Attribute) if not isinstance(node.ctx, ast.Load)}
+        read = {node.attr for _, node in nodes(ast.Attribute) if isinstance(node.ctx, ast.Load)}
+        self.assertEqual({node.name for node in functions} & assigned, set())
+        properties = {node.name for node in functions if node.decorator_list}
+        self.assertEqual(properties & {node.name for node in functions if not node.decorator_list}, set())
+        self.assertEqual(read - assigned - {node.name for node in functions} - METHODS, set())
+
+    def test_items_are_not_iterated(self):
+        for path, node in nodes(ast.ClassDef):
+            methods = [one.name for one in node.body if isinstance(one, ast.FunctionDef)]
+            self.assertEqual("__getitem__" in methods, "__iter__" in methods, (path.name, node.name))
+
+    def test_sets_and_views(self):
+        for path, tree in trees():
+            parents = {child: node for node in ast.walk(tree) for child in ast.iter_child_nodes(node)}
+            for node in ast.walk(tree):
+                if isinstance(node, ast.Call) and getattr(node.func, "id", "") == "set":
+                    self.assertIn(getattr(getattr(parents[node], "func", None), "id", ""), ("sorted", "len"), path.name)
+                if isinstance(node, ast.Call) and getattr(node.func, "attr", "") in ("items", "keys", "values"):
+                    parent = parents[node]
+                    walked = isinstance(parent, (ast.For, ast.comprehension)) and parent.iter is node
+                    self.assertTrue(walked or getattr(parent.func, "id", "") in ("list", "sorted"), (path.name, node.lineno))
+            self.assertFalse([node for node in ast.walk(tree) if isinstance(node, (ast.Set, ast.SetComp))], path.name)
+
+    def test_errors_are_made_on_the_spot(self):
+        for path, node in nodes(ast.Raise):
+            made = isinstance(node.exc, ast.Call) and isinstance(node.exc.func, ast.Name)
+            self.assertTrue(made and node.exc.func.id[0].isupper(), (path.name, node.lineno))
+            cause = node.cause
+            self.assertTrue(cause is None or (isinstance(cause, ast.Constant) and cause.value is None), path.name)
 
     def test_quantifiers_take_lists(self):
         for path, node in nodes(ast.GeneratorExp):
