@@ -3,7 +3,7 @@
 from smallcourt.books import Book, Rule, replaced
 from smallcourt.comparison import swapped
 from smallcourt.conditions import Condition
-from smallcourt.errors import InvalidAmendment, UnknownRule
+from smallcourt.errors import InvalidAmendment
 from smallcourt.names import is_name
 from smallcourt.position import names_in, next_beside, path_to
 
@@ -20,8 +20,7 @@ def amended(book, amendment):
     name = amendment[1]
     if name is None:
         return amended_book(book, word, amendment[2])
-    if name not in book:
-        raise UnknownRule("the book has no rule with this name")
+    # Without a rule of this name, each of these raises UnknownRule.
     if word == "strike":
         return book - name
     if word == "swap":
@@ -50,7 +49,7 @@ def amended_rule(rule, word, new):
 
 def is_amendment(value):
     """Tell whether a value of any kind is an amendment."""
-    if not isinstance(value, tuple) or not value or not isinstance(value[0], str):
+    if not isinstance(value, tuple) or not value:
         return False
     if value[0] in WORDS_WITH_NAME:
         return len(value) == 2 and is_name(value[1])

@@ -101,6 +101,7 @@ class InvalidTest(unittest.TestCase):
             self.assert_invalid((word,))
             self.assert_invalid((word, "mild"))
             self.assert_invalid((word, "mild", "other"))
+            self.assert_invalid((word, "mild", NEW))
             self.assert_invalid((word, None, NEW))
 
     def test_a_part_too_few_or_too_many(self):
