@@ -74,8 +74,7 @@ class Hearing:
 def fewest_questions(hearing):
     """Return how many more facts have to be known in the worst case until the ruling is settled."""
     places = mattering_places(hearing)
-    table = table_over(lines_left(hearing.book, hearing.known), hearing.book.ruling, places)
-    return Questions().fewest(table)
+    return Questions().fewest(table_left(hearing, places))
 
 
 def next_question(hearing):
@@ -83,8 +82,7 @@ def next_question(hearing):
     places = mattering_places(hearing)
     if not places:
         return None
-    table = table_over(lines_left(hearing.book, hearing.known), hearing.book.ruling, places)
-    return hearing.book.facts[places[Questions().best_place(table)]]
+    return hearing.book.facts[places[Questions().best_place(table_left(hearing, places))]]
 
 
 def best_guess(hearing):
@@ -124,6 +122,11 @@ def given_by(book, known):
 def lines_left(book, known):
     """Return the lines by which the possible cases are ruled."""
     return narrowed_lines(lines_of(book), given_by(book, known))
+
+
+def table_left(hearing, places):
+    """Return the table of the possible cases over the facts with some places."""
+    return table_over(lines_left(hearing.book, hearing.known), hearing.book.ruling, places)
 
 
 def rulings_left(book, known):
