@@ -1,6 +1,6 @@
 """The ruling of entries that look at each other."""
 
-from smallcourt.ruling import decider
+from smallcourt.ruling import outcome
 
 
 class Bench:
@@ -27,6 +27,5 @@ class Bench:
     def ruled_by(self, court, case):
         """Return the tuple (ruling, decider, case) of a case by the court with a number."""
         if (court, case) not in self.found:
-            book = self.courts[court]
-            self.found[(court, case)] = (book(case), decider(book, case), case)
+            self.found[(court, case)] = outcome(self.courts[court], case) + (case,)
         return self.found[(court, case)]

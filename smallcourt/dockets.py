@@ -1,8 +1,8 @@
 """Dockets: entries that are ruled by several courts, and that look at each other."""
 
 from smallcourt.bench import Bench
-from smallcourt.errors import InvalidCase, InvalidDocket, InvalidNumber, UnknownLabel
-from smallcourt.facts import check_case
+from smallcourt.errors import InvalidDocket, InvalidNumber, UnknownLabel
+from smallcourt.facts import check_case, is_case
 from smallcourt.names import check_word, is_integer, is_name
 
 MOST_BOOKS = 4
@@ -70,23 +70,12 @@ def is_entry(value, books, labels):
     if not isinstance(value, tuple) or len(value) != 4:
         return False
     label, case, looks, court = value
-    if not is_name(label) or label in labels or not is_case(case, books[0].facts):
+    if not is_name(label) or label in labels or not is_case(books[0].facts, case):
         return False
     if not isinstance(looks, tuple) or len(looks) > MOST_LOOKS:
         return False
     seen = all([is_look(look, books[0].facts, labels) for look in looks])
     return seen and is_integer(court) and 0 <= court < len(books)
-
-
-def is_case(value, facts):
-    """Tell whether a value of any kind is a case."""
-    if not isinstance(value, tuple):
-        return False
-    try:
-        check_case(facts, value)
-    except InvalidCase:
-        return False
-    return True
 
 
 def is_look(value, facts, labels):

@@ -37,6 +37,17 @@ def check_case(facts, case):
             raise InvalidCase(index)
 
 
+def is_case(facts, value):
+    """Tell whether a value of any kind is a case."""
+    if not isinstance(value, tuple):
+        return False
+    try:
+        check_case(facts, value)
+    except InvalidCase:
+        return False
+    return True
+
+
 def bits_of(facts, names):
     """Return the sum of 2 ** place over the facts that are among the names."""
     return sum([1 << place for place, name in enumerate(facts) if name in names])

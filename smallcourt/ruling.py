@@ -10,6 +10,11 @@ def decider(book, case):
     return names[-1] if names else None
 
 
+def outcome(book, case):
+    """Return the tuple (ruling, decider) of a case."""
+    return book(case), decider(book, case)
+
+
 def way(book, case):
     """Return the list of the names of all rules that are looked into, the outermost first."""
     check_case(book.facts, case)

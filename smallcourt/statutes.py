@@ -15,7 +15,7 @@ from smallcourt.errors import (
 from smallcourt.facts import check_case, names_of
 from smallcourt.lines import rulings_of_all
 from smallcourt.names import check_word, is_integer
-from smallcourt.ruling import decider
+from smallcourt.ruling import outcome
 
 MOST_AMENDMENTS = 60
 MOST_FACTS_OF_ALL_CASES = 10
@@ -80,7 +80,7 @@ def rulings_by_day(statute, case):
     check_case(statute.book.facts, case)
     found = []
     for first, _, book in ranges_of(statute):
-        told = (book(case), decider(book, case))
+        told = outcome(book, case)
         if not found or found[-1][1:] != told:
             found.append((first,) + told)
     return found

@@ -8,9 +8,13 @@ from smallcourt.comparison import clashes, first_unlike, swapped, unlike_count
 from smallcourt.conditions import Condition
 from smallcourt.counting import cases, counts, decided_by, idle_facts, idle_rules, nth_case, rank, share, swing
 from smallcourt.dockets import Docket, effect_of, fewest_appeals, looked_at, retried, without
-from smallcourt.errors import InvalidBook, InvalidCase, InvalidCondition, InvalidDocket, InvalidStatute, NoNeighbor
+from smallcourt.errors import (
+    InvalidBook, InvalidCase, InvalidCondition, InvalidDocket, InvalidOperation, InvalidStatute, NoNeighbor,
+)
 from smallcourt.facts import case_number, case_of
 from smallcourt.hearings import Hearing, best_guess, fewest_questions, hear, next_question
+from smallcourt.learning import first_misfit, least_book
+from smallcourt.live import LiveCourt
 from smallcourt.reasons import core, is_reason, reason, turn, turn_to
 from smallcourt.ruling import decider, rules_looked_at, way
 from smallcourt.seasons import Seasons, always, count_rulings, next_day
@@ -18,6 +22,7 @@ from smallcourt.shapes import flat, lean, under
 from smallcourt.statutes import (
     Statute, count_days, first_turn_day, restless, rulings_by_day, stood, touched, undone_on,
 )
+from smallcourt.watchers import ConditionWatcher, OrderWatcher
 from tests.helpers import FACTS
 from tests.makers import example_book, rule, statute_book
 
@@ -151,6 +156,32 @@ class FourthStageTest(unittest.TestCase):
         with self.assertRaises(InvalidDocket) as caught:
             Docket((book,), (("ann", ("late",), (), 0), ("ann", (), (), 0)))
         self.assertEqual((caught.exception.part, caught.exception.index), ("entries", 1))
+
+
+class FifthStageTest(unittest.TestCase):
+    def test_live(self):
+        court = LiveCourt(statute_book())
+        told = [court.judge("ann", ("first", "late")), court.amend(("strike", "mild")), court.stale(), court.renew("ann")]
+        self.assertEqual(told, ["warn", ["ann"], ["ann"], True])
+        self.assertEqual([court.undo(), court.judged], [True, [("ann", ("first", "late"), "warn", "mild")]])
+        with self.assertRaises(InvalidOperation) as caught:
+            LiveCourt(statute_book()).apply_all([("renew", "ann"), ("judge", "ann")])
+        self.assertEqual(caught.exception.index, 1)
+
+    def test_watchers(self):
+        watcher = ConditionWatcher(statute_book(), "mild")
+        told = [len(watcher.candidates), watcher.see(("first", "late"), "warn"), watcher.see_decider(("late",), "late")]
+        self.assertEqual(told, [19, 7, 3])
+        told = [watcher.possible(("first",)), watcher.telling(), watcher.candidates[0].holding]
+        self.assertEqual(told, [["free"], (), ("first",)])
+        watcher = OrderWatcher(Book(("late",), (rule("all", (), (), "fine"), rule("late", ("late",), (), "warn")), "free"))
+        told = [watcher.order_count, watcher.see(("late",), "warn"), watcher.first_order, watcher.sure("late", "all")]
+        self.assertEqual(told, [2, 1, ("late", "all"), True])
+
+    def test_learning(self):
+        found = least_book(("late", "paid"), [(("late",), "fine"), (("late", "paid"), "free"), ((), "free")], 2)
+        self.assertEqual([found.names, found["a"].condition.failing, found["b"].condition.holding], [["a", "b"], ("late",), ("paid",)])
+        self.assertEqual([found.ruling, first_misfit(found, [((), "fine")])], ["fine", 0])
 
 
 if __name__ == "__main__":
