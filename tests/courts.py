@@ -3,6 +3,7 @@
 from smallcourt.errors import InvalidBook, InvalidCase, InvalidLabel, NoNeighbor, UnknownLabel, UnknownRule
 from smallcourt.live import LiveCourt
 from tests.makers import AmendmentMaker, beside_and_around, plain_amended, read
+from tests.plain_texts import plain_name
 
 LABELS = ("ann", "bob", "cid", "dan", "eve")
 
@@ -68,7 +69,7 @@ class PlainCourt:
             return [one[0] for one in judged if read(book, one[1])[0] != read(changed, one[1])[0]], changed, judged
         labels = [one[0] for one in judged]
         if word == "judge":
-            if first not in LABELS or first in labels:
+            if not plain_name(first) or first in labels:
                 raise Refused(InvalidLabel)
             if not is_plain_case(book.facts, case):
                 raise Refused(InvalidCase)

@@ -4,17 +4,21 @@ import unittest
 
 from smallcourt.amendments import amended
 from smallcourt.books import Book
+from smallcourt.codec import decode_book, encode_book
 from smallcourt.comparison import clashes, first_unlike, swapped, unlike_count
 from smallcourt.conditions import Condition
 from smallcourt.counting import cases, counts, decided_by, idle_facts, idle_rules, nth_case, rank, share, swing
+from smallcourt.daybooks import Daybook
 from smallcourt.dockets import Docket, effect_of, fewest_appeals, looked_at, retried, without
 from smallcourt.errors import (
-    InvalidBook, InvalidCase, InvalidCondition, InvalidDocket, InvalidOperation, InvalidStatute, NoNeighbor,
+    DaybookError, DecodeError, InvalidBook, InvalidCase, InvalidCondition, InvalidDocket, InvalidOperation, InvalidStatute,
+    InvalidText, NoNeighbor,
 )
 from smallcourt.facts import case_number, case_of
 from smallcourt.hearings import Hearing, best_guess, fewest_questions, hear, next_question
 from smallcourt.learning import first_misfit, least_book
 from smallcourt.live import LiveCourt
+from smallcourt.notation import format_book, parse_book
 from smallcourt.reasons import core, is_reason, reason, turn, turn_to
 from smallcourt.ruling import decider, rules_looked_at, way
 from smallcourt.seasons import Seasons, always, count_rulings, next_day
@@ -22,6 +26,7 @@ from smallcourt.shapes import flat, lean, under
 from smallcourt.statutes import (
     Statute, count_days, first_turn_day, restless, rulings_by_day, stood, touched, undone_on,
 )
+from smallcourt.tables import explained, table
 from smallcourt.watchers import ConditionWatcher, OrderWatcher
 from tests.helpers import FACTS
 from tests.makers import example_book, rule, statute_book
@@ -182,6 +187,39 @@ class FifthStageTest(unittest.TestCase):
         found = least_book(("late", "paid"), [(("late",), "fine"), (("late", "paid"), "free"), ((), "free")], 2)
         self.assertEqual([found.names, found["a"].condition.failing, found["b"].condition.holding], [["a", "b"], ("late",), ("paid",)])
         self.assertEqual([found.ruling, first_misfit(found, [((), "fine")])], ["fine", 0])
+
+
+class SixthStageTest(unittest.TestCase):
+    def test_notation(self):
+        text = format_book(statute_book())
+        self.assertEqual(text, "facts first late paid\nlate is fine if late not paid\n> mild is warn if first\nelse free")
+        self.assertEqual(parse_book(text), statute_book())
+        with self.assertRaises(InvalidText) as caught:
+            parse_book("facts late\nlate is fine if paid\nelse free")
+        self.assertEqual((caught.exception.row, caught.exception.word), (1, 4))
+
+    def test_tables(self):
+        book = statute_book()
+        self.assertEqual(explained(book, ("first", "late")), "late: late, no paid\n  mild: first\nso warn")
+        self.assertEqual(table(book, ("first", "late")).split("\n"), ["-- free", "+- free", "-+ fine", "++ warn"])
+
+    def test_codec(self):
+        values = encode_book(Book(("late",), (), "free"))
+        self.assertEqual(values, [66, 1, 4, 12, 1, 20, 5, 0, 4, 6, 18, 5, 5, 9])
+        self.assertEqual(decode_book(values).ruling, "free")
+        with self.assertRaises(DecodeError) as caught:
+            decode_book([66, 0])
+        self.assertEqual(caught.exception.offset, 1)
+
+    def test_daybooks(self):
+        book = "facts first late paid\nlate is fine if late not paid\n> mild is warn if first\nelse free\n"
+        daybook = Daybook(book + "court\njudge ann first late\nstrike mild\nrenew ann\nlook ann fine")
+        self.assertEqual(daybook.results, "warn\nann\nyes")
+        self.assertEqual(daybook.finish().judged, [("ann", ("first", "late"), "fine", "late")])
+        self.assertEqual(len(daybook.finish().history), 3)
+        with self.assertRaises(DaybookError) as caught:
+            Daybook("facts late\nelse free\ncourt\njudge")
+        self.assertEqual((caught.exception.row, caught.exception.word), (3, 1))
 
 
 if __name__ == "__main__":

@@ -76,6 +76,11 @@ def bound(tree):
     return found
 
 
+def decorator_of(function):
+    """The name of the decorator of a function, "" without one."""
+    return function.decorator_list[0].id if function.decorator_list else ""
+
+
 def local_names(function):
     """All names that a function binds, its parameters included."""
     found = {one.arg for one in ast.walk(function.args) if isinstance(one, ast.arg)}
@@ -152,7 +157,7 @@ class CodeTest(unittest.TestCase):
                 self.assertTrue(node.func.attr != "__init__" or chained, (path.name, node.lineno))
 
     def test_properties_are_not_called(self):
-        found = {node.name for _, node in nodes(ast.FunctionDef) if node.decorator_list}
+        found = {node.name for _, node in nodes(ast.FunctionDef) if decorator_of(node) == "property"}
         for path, node in nodes(ast.Call):
             if isinstance(node.func, ast.Attribute):
                 self.assertNotIn(node.func.attr, found, (path.name, node.lineno))
@@ -192,8 +197,10 @@ class CodeTest(unittest.TestCase):
         assigned = {node.attr for _, node in nodes(ast.Attribute) if not isinstance(node.ctx, ast.Load)}
         read = {node.attr for _, node in nodes(ast.Attribute) if isinstance(node.ctx, ast.Load)}
         self.assertEqual({node.name for node in functions} & assigned, set())
-        properties = {node.name for node in functions if node.decorator_list}
-        self.assertEqual(properties & {node.name for node in functions if not node.decorator_list}, set())
+        properties = {node.name for node in functions if decorator_of(node) == "property"}
+        self.assertEqual(properties & {node.name for node in functions if decorator_of(node) != "property"}, set())
+        shared = {node.name for node in functions if decorator_of(node) == "classmethod"}
+        self.assertEqual(shared & {node.name for node in functions if decorator_of(node) != "classmethod"}, set())
         self.assertEqual(read - assigned - {node.name for node in functions} - METHODS, set())
 
     def test_items_are_not_iterated(self):
@@ -219,6 +226,23 @@ class CodeTest(unittest.TestCase):
             self.assertTrue(made and node.exc.func.id[0].isupper(), (path.name, node.lineno))
             cause = node.cause
             self.assertTrue(cause is None or (isinstance(cause, ast.Constant) and cause.value is None), path.name)
+
+    def test_ends_of_blocks_only_assign(self):
+        for path, node in nodes(ast.FunctionDef):
+            if node.name == "__exit__":
+                self.assertEqual([one.arg for one in node.args.args], ["self", "kind", "value", "trace"])
+                for one in ast.walk(node):
+                    plain = (ast.FunctionDef, ast.arguments, ast.arg, ast.If, ast.UnaryOp, ast.Not, ast.Assign,
+                             ast.Attribute, ast.Name, ast.expr_context)
+                    self.assertIsInstance(one, plain, (path.name, node.lineno))
+
+    def test_classes_of_class_methods_are_only_called(self):
+        for path, node in nodes(ast.FunctionDef):
+            if decorator_of(node) == "classmethod":
+                called = {one.func for one in ast.walk(node) if isinstance(one, ast.Call)}
+                for one in ast.walk(node):
+                    if isinstance(one, ast.Name) and one.id == "cls":
+                        self.assertIn(one, called, (path.name, node.lineno))
 
     def test_quantifiers_take_lists(self):
         for path, node in nodes(ast.GeneratorExp):
