@@ -46,7 +46,7 @@ def words_of(rule, around):
 
 def parse_book(text):
     """Return the book of a text."""
-    rows = [Words(row, told) for row, told in enumerate(text.split("\n"))]
+    rows = [Words(row, line) for row, line in enumerate(text.split("\n"))]
     facts = read_facts(rows[0])
     told = []
     for words in rows[1:]:
