@@ -124,16 +124,17 @@ class Trial:
         self._court = court
         self._steps = ()
         self._place = 0
-        self._kept = False
+        # None, not False, as long as nothing is to be kept: the end of a block may only ask whether it is None.
+        self._kept = None
 
     def __enter__(self):
         self._steps = self._court._steps
         self._place = self._court._place
-        self._kept = False
+        self._kept = None
         return self
 
     def __exit__(self, kind, value, trace):
-        if not self._kept:
+        if self._kept is None:
             self._court._steps = self._steps
             self._court._place = self._place
 

@@ -90,6 +90,20 @@ def local_names(function):
     return found
 
 
+def asks_for_none(test):
+    """Tell whether a test only asks whether names and attributes are None, joined by `and`, `or` and `not`."""
+    if isinstance(test, ast.BoolOp):
+        return all(asks_for_none(part) for part in test.values)
+    if isinstance(test, ast.UnaryOp):
+        return isinstance(test.op, ast.Not) and asks_for_none(test.operand)
+    if not isinstance(test, ast.Compare) or len(test.ops) > 1 or not isinstance(test.ops[0], (ast.Is, ast.IsNot)):
+        return False
+    asked, answer = test.left, test.comparators[0]
+    while isinstance(asked, ast.Attribute):
+        asked = asked.value
+    return isinstance(asked, ast.Name) and isinstance(answer, ast.Constant) and answer.value is None
+
+
 class FilesTest(unittest.TestCase):
     def test_names_of_files(self):
         for path in FILES:
@@ -228,13 +242,30 @@ class CodeTest(unittest.TestCase):
             self.assertTrue(cause is None or (isinstance(cause, ast.Constant) and cause.value is None), path.name)
 
     def test_ends_of_blocks_only_assign(self):
+        plain = (ast.FunctionDef, ast.arguments, ast.arg, ast.If, ast.Assign, ast.Attribute, ast.Name, ast.expr_context)
         for path, node in nodes(ast.FunctionDef):
             if node.name == "__exit__":
                 self.assertEqual([one.arg for one in node.args.args], ["self", "kind", "value", "trace"])
+                tests = [one.test for one in ast.walk(node) if isinstance(one, ast.If)]
+                asked = [part for test in tests for part in ast.walk(test)]
                 for one in ast.walk(node):
-                    plain = (ast.FunctionDef, ast.arguments, ast.arg, ast.If, ast.UnaryOp, ast.Not, ast.Assign,
-                             ast.Attribute, ast.Name, ast.expr_context)
-                    self.assertIsInstance(one, plain, (path.name, node.lineno))
+                    self.assertTrue(one in asked or isinstance(one, plain), (path.name, node.lineno))
+
+    def test_ends_of_blocks_only_ask_for_none(self):
+        for path, node in nodes(ast.FunctionDef):
+            if node.name == "__exit__":
+                for one in ast.walk(node):
+                    if isinstance(one, ast.If):
+                        self.assertTrue(asks_for_none(one.test), (path.name, one.lineno))
+
+    def test_what_asks_for_none(self):
+        for text in ("box is None", "self.held is not None", "not self.box.held is None", "kind is None or a.b is None",
+                     "not (a is None and (b is not None or c.d is None))"):
+            self.assertTrue(asks_for_none(ast.parse(text, mode="eval").body), text)
+        for text in ("self.held", "not self.held", "kind", "self.held is True", "self.held == None", "self.held == 0",
+                     "a is None and self.held", "a is None or not b", "a is b is None", "self.held() is None",
+                     "rows[0] is None", "None is None", "-(a is None)", "True"):
+            self.assertFalse(asks_for_none(ast.parse(text, mode="eval").body), text)
 
     def test_classes_of_class_methods_are_only_called(self):
         for path, node in nodes(ast.FunctionDef):

@@ -26,6 +26,19 @@ def example_court():
     return court
 
 
+def way_of(court):
+    """The states to which `undo` and `redo` lead, from the first to the last, and the place of the present one."""
+    place = 0
+    while court.undo():
+        place += 1
+    states = [state_of(court)]
+    while court.redo():
+        states.append(state_of(court))
+    for _ in states[place + 1:]:
+        court.undo()
+    return states, place
+
+
 class LiveTest(unittest.TestCase):
     def assert_plays(self, court, plain, operation):
         """Plays an operation in both courts; tells whether it was refused."""
@@ -404,6 +417,52 @@ class TrialTest(LiveTest):
                 added = [("judge", "cid", ())] + [("judge", "dan", ("late",))] * inner + [("judge", "eve", ())]
                 self.assertEqual(court.history, before + added * outer)
                 self.assertIs(court.redo(), not outer)
+
+    def test_undo_and_redo_behind_blocks(self):
+        inside = [("undo",), ("judge", "eve", ("late",)), ("renew", "ann"), ("undo",)]
+        for kept, broken in ((False, False), (True, False), (False, True), (True, True)):
+            court, other = example_court(), example_court()
+            states, place = way_of(court)
+            self.assertEqual([len(states), place], [6, 2])
+            try:
+                with Trial(court) as trial:
+                    for operation in inside:
+                        do(court, operation)
+                    if kept:
+                        trial.keep()
+                    if broken:
+                        court.drop("zoo")
+            except UnknownLabel:
+                self.assertTrue(broken)
+            if kept:
+                for operation in inside:
+                    do(other, operation)
+                self.assertNotEqual(way_of(other), (states, place))
+            self.assertEqual(way_of(court), way_of(other))
+            self.assertEqual(way_of(court) == (states, place), not kept)
+
+    def test_a_second_block_begins_with_nothing_kept(self):
+        for broken in (True, False):
+            court = example_court()
+            trial = Trial(court)
+            trial.keep()
+            before = way_of(court)
+            with trial:
+                court.judge("dan", ())
+            self.assertEqual(way_of(court), before)
+            with trial:
+                court.judge("eve", ())
+                trial.keep()
+            trial.keep()
+            kept = way_of(court)
+            self.assertEqual([len(kept[0]), kept[1]], [4, 3])
+            try:
+                with trial:
+                    court.undo()
+                    court.drop("zoo" if broken else "ann")
+            except UnknownLabel:
+                self.assertTrue(broken)
+            self.assertEqual(way_of(court), kept)
 
     def test_a_trial_begins_with_its_block(self):
         court = example_court()
